@@ -1,0 +1,1 @@
+"""Basehouse: things of which some sets stand free."""
