@@ -48,3 +48,11 @@ def pressed(s, kept):
 
 def spread(s, kept):
     return set_of([thing for number, thing in enumerate(things(kept)) if holds(s, number)])
+
+
+def all_of(n):
+    return (1 << n) - 1
+
+
+def less(s, t):
+    return s ^ (s & t)

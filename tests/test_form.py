@@ -153,9 +153,30 @@ def top_faults(tree):
     return faults
 
 
+def name_at_top_faults(tree):
+    """Names bound twice at the top, and parameters and locals called like a class or an import of the file."""
+    drawn = [alias.name for node in tree.body if isinstance(node, ast.ImportFrom) for alias in node.names]
+    bound = drawn + [name for node in tree.body for name in tops_of(node)]
+    faults = [f"L15 {name} bound twice" for name in bound if bound.count(name) > 1]
+    taken = set(drawn) | {node.name for node in tree.body if isinstance(node, ast.ClassDef)}
+    for part in tree.body:
+        for node in ast.walk(part):
+            if node is not part:
+                faults.extend(f"L15 {name} is the file's own" for name in bound_names(node) if name in taken)
+    return faults
+
+
+def tops_of(node):
+    if isinstance(node, (ast.FunctionDef, ast.ClassDef)):
+        return [node.name]
+    if isinstance(node, ast.Assign):
+        return [target.id for target in node.targets if isinstance(target, ast.Name)]
+    return []
+
+
 def faults_of(text):
     tree = ast.parse(text)
-    faults = text_faults(text) + top_faults(tree)
+    faults = text_faults(text) + top_faults(tree) + name_at_top_faults(tree)
     for node in ast.walk(tree):
         found = name_faults(node) + import_faults(node) + def_faults(node)
         found = found + statement_faults(node) + value_faults(node)
@@ -163,16 +184,36 @@ def faults_of(text):
     return faults
 
 
-def own_attributes(trees):
-    """Methods and fields that the package's classes give themselves."""
-    found = set()
+def drawn_faults(trees):
+    """What is drawn from a file that does not define it, and files that draw from one another; trees by file name."""
+    faults = []
+    draws = {}
+    for name, tree in trees.items():
+        rows = [node for node in tree.body if isinstance(node, ast.ImportFrom)]
+        draws[name] = {node.module.partition(".")[2] for node in rows}
+        for node in rows:
+            source = trees[node.module.partition(".")[2]]
+            defined = {top for part in source.body for top in tops_of(part)}
+            faults.extend(f"L16 {name}: {alias.name}" for alias in node.names if alias.name not in defined)
+    left = dict(draws)
+    while left:
+        free = [name for name in left if not any(other in left for other in left[name])]
+        if not free:
+            return faults + [f"L16 {sorted(left)} draw from one another"]
+        left = {name: others for name, others in left.items() if name not in free}
+    return faults
+
+
+def methods_and_values(trees):
+    methods = set()
+    values = set()
     for tree in trees:
         for node in ast.walk(tree):
             if isinstance(node, ast.ClassDef):
-                found.update(part.name for part in node.body if isinstance(part, ast.FunctionDef))
+                methods.update(part.name for part in node.body if isinstance(part, ast.FunctionDef))
             if isinstance(node, ast.Attribute) and isinstance(node.ctx, ast.Store):
-                found.add(node.attr)
-    return found
+                values.add(node.attr)
+    return methods, values
 
 
 class Form(unittest.TestCase):
@@ -188,9 +229,20 @@ class Form(unittest.TestCase):
         for path in self.files():
             self.assertEqual(faults_of(path.read_text(encoding="utf-8")), [], path)
 
+    def trees(self):
+        return {path.stem: ast.parse(path.read_text(encoding="utf-8")) for path in self.files()}
+
+    def test_names_are_drawn_from_where_they_are_defined(self):
+        self.assertEqual(drawn_faults(self.trees()), [])
+
+    def test_no_name_is_a_method_and_a_value(self):
+        methods, values = methods_and_values(self.trees().values())
+        self.assertEqual(methods & values, set())
+
     def test_attributes_are_told_ones(self):
-        trees = [ast.parse(path.read_text(encoding="utf-8")) for path in self.files()]
-        told = OWN_METHODS | own_attributes(trees) | {"__init__"}
+        trees = self.trees().values()
+        methods, values = methods_and_values(trees)
+        told = OWN_METHODS | methods | values | {"__init__"}
         for tree in trees:
             for node in ast.walk(tree):
                 if isinstance(node, ast.Attribute):
@@ -205,9 +257,20 @@ class Form(unittest.TestCase):
             "def f(list):\n    return list\n", "def f(_x):\n    return _x\n", "class C:\n    x = 1\n",
             "x = 'a%b'\n", "x = 1 # a type\n", "\tx = 1\n".lstrip() + "# \t\n", "x = 1  # " + "a" * 120 + "\n",
             "def f():\n" + "    pass\n" * 40, "def f(x):\n    return [a for a in x if a if a]\n",
+            "from basehouse.sets import size\ndef f(size):\n    return size\n", "x = 1\nx = 2\n",
+            "class C:\n    pass\ndef f(x):\n    return [C for C in x]\n",
         ]
         for text in wrong:
             self.assertNotEqual(faults_of(text), [], text)
+
+    def test_the_look_finds_files_that_draw_from_one_another(self):
+        one = ast.parse("from basehouse.b import g\ndef f():\n    return 1\n")
+        right = ast.parse("def g():\n    return 1\n")
+        round_about = ast.parse("from basehouse.a import f\ndef g():\n    return 1\n")
+        elsewhere = ast.parse("from basehouse.c import g\n")
+        self.assertEqual(drawn_faults({"a": one, "b": right}), [])
+        self.assertNotEqual(drawn_faults({"a": one, "b": round_about}), [])
+        self.assertNotEqual(drawn_faults({"a": one, "b": elsewhere, "c": right}), [])
 
 
 if __name__ == "__main__":

@@ -1,7 +1,7 @@
 import itertools
 import unittest
 
-from basehouse.sets import choices, lowest, parts, pressed, set_of, size, spread, things, within
+from basehouse.sets import all_of, choices, less, lowest, parts, pressed, set_of, size, spread, things, within
 
 EVERYTHING = 255
 ALL = range(256)
@@ -103,6 +103,15 @@ class Told(unittest.TestCase):
             for k in range(10):
                 mine = sorted(number(c) for c in itertools.combinations(members(s), k))
                 self.assertEqual(choices(s, k), mine)
+
+    def test_all_of(self):
+        for n in range(9):
+            self.assertEqual(all_of(n), number(range(n)))
+
+    def test_less_for_every_two_sets(self):
+        for s in ALL:
+            for t in ALL:
+                self.assertEqual(less(s, t), number(set(members(s)) - set(members(t))))
 
 
 class ListsStayTheirOwners(unittest.TestCase):

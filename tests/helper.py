@@ -1,0 +1,161 @@
+"""What several tests need: sets by worths, plain searches for breaks, and numbers that only look strewn."""
+
+import itertools
+
+PRIMES = [p for p in range(2, 100) if all(p % d for d in range(2, p))]
+# How many houses of 0, 1, 2, .. things there are, the things told apart.
+HOUSES = [1, 2, 5, 16, 68]
+
+
+def members(s):
+    """The things of a set, found by worths rather than by bits."""
+    return [k for k in range(s.bit_length()) if (s // 2**k) % 2 == 1]
+
+
+def number(some):
+    return sum(2**k for k in set(some))
+
+
+def subsets(n, k):
+    """All sets of k of n things, rising."""
+    return sorted(number(some) for some in itertools.combinations(range(n), k))
+
+
+def strewn(seed):
+    """Numbers from 0 to 2 ** 32 - 1, the same at each run."""
+    state = seed * 2654435761 + 12345
+    while True:
+        state = (state * 6364136223846793005 + 1442695040888963407) % 2**64
+        yield state // 2**32
+
+
+def lists_of_sets(n):
+    """Every rising list of sets of n things."""
+    for chosen in range(2 ** (2**n)):
+        yield [s for s in range(2**n) if (chosen // 2**s) % 2 == 1]
+
+
+def strewn_lists(n, many, seed):
+    """Some lists of sets of n things, longer and shorter ones."""
+    numbers = strewn(seed)
+    for turn in range(many):
+        yield [s for s in range(2**n) if next(numbers) % (2 + turn % 5) == 0]
+
+
+def least(breaks):
+    return min(breaks, default=None)
+
+
+def plain_bases(n, bases):
+    """Through all triples, as the point tells them."""
+    if not bases:
+        return (0, 0, -1)
+    have = {frozenset(members(s)) for s in bases}
+    breaks = []
+    for one, other, thing in itertools.product(bases, bases, range(n)):
+        a, b = frozenset(members(one)), frozenset(members(other))
+        if thing in a - b and not any(a - {thing} | {y} in have for y in b - a):
+            breaks.append((one, other, thing))
+    return least(breaks)
+
+
+def plain_rings(n, rings):
+    have = [frozenset(members(s)) for s in rings]
+    if frozenset() in have:
+        return (0, 0, -1)
+    pairs = list(itertools.product(rings, rings))
+    breaks = [(one, other, -1) for one, other in pairs if set(members(one)) < set(members(other))]
+    if breaks:
+        return least(breaks)
+    for (one, other), thing in itertools.product(pairs, range(n)):
+        a, b = frozenset(members(one)), frozenset(members(other))
+        if one < other and thing in a & b and not any(ring <= (a | b) - {thing} for ring in have):
+            breaks.append((one, other, thing))
+    return least(breaks)
+
+
+def plain_ranks(n, ranks):
+    if ranks[0] != 0:
+        return (0, 0, -1)
+    pairs = list(itertools.product(range(2**n), range(2**n)))
+    breaks = []
+    for one, other in pairs:
+        a, b = set(members(one)), set(members(other))
+        if a < b and len(b) == len(a) + 1 and ranks[other] - ranks[one] not in [0, 1]:
+            breaks.append((one, other, -1))
+    if breaks:
+        return least(breaks)
+    for one, other in pairs:
+        a, b = set(members(one)), set(members(other))
+        if one < other and len(a) == len(b) == len(a & b) + 1:
+            low = ranks[number(a & b)]
+            if ranks[one] == ranks[other] == low < ranks[number(a | b)]:
+                breaks.append((one, other, -1))
+    return least(breaks)
+
+
+def plain_flats(n, flats):
+    everything = 2**n - 1
+    if everything not in flats:
+        return (everything, everything, -1)
+    have = {s: frozenset(members(s)) for s in flats}
+    breaks = []
+    for one, other in itertools.product(flats, flats):
+        if one < other and have[one] & have[other] not in have.values():
+            breaks.append((one, other, -1))
+    if breaks:
+        return least(breaks)
+
+    def over(one, thing):
+        return frozenset.intersection(*[flat for flat in have.values() if flat >= have[one] | {thing}])
+
+    for one in flats:
+        outside = set(range(n)) - have[one]
+        covers = {x: over(one, x) for x in outside}
+        for cover, thing in itertools.product(covers.values(), range(n)):
+            if thing in cover - have[one] and covers[thing] != cover:
+                breaks.append((one, number(cover), thing))
+    return least(breaks)
+
+
+def rank_by(bases, s):
+    return max(len(set(members(s)) & set(members(base))) for base in bases)
+
+
+def tellings_by(n, bases):
+    """Ranks, rings and flats of the house with these bases, set by set."""
+    ranks = [rank_by(bases, s) for s in range(2**n)]
+    free = [ranks[s] == len(members(s)) for s in range(2**n)]
+    rings = [s for s in range(2**n) if not free[s] and all(free[s - 2**k] for k in members(s))]
+    flats = [s for s in range(2**n)
+             if all(ranks[s + 2**k] == ranks[s] + 1 for k in range(n) if k not in members(s))]
+    return ranks, rings, flats
+
+
+def some_bases():
+    """Bases of houses of 0 to 8 things, told by hand: (n, list of bases)."""
+    found = [(n, subsets(n, k)) for n in range(9) for k in range(n + 1)]
+    lines = [{0, 1, 2}, {0, 3, 4}, {0, 5, 6}, {1, 3, 5}, {1, 4, 6}, {2, 3, 6}, {2, 4, 5}]
+    seven = [s for s in subsets(7, 3) if set(members(s)) not in lines]
+    found.append((7, seven))
+    # A thing of rank 0 and a thing in every base, beside it.
+    found.append((8, [s + 128 for s in subsets(6, 2)]))
+    found.append((4, [1]))
+    found.append((5, [0b00011, 0b00101, 0b10001]))
+    # Two and two of the things stand for one another.
+    found.append((8, sorted(number([a, 2 + b, 4 + c]) for a, b, c in itertools.product([0, 1], repeat=3))))
+    # A square and its slant: trees of a net.
+    found.append((5, [s for s in subsets(5, 3) if s not in (0b10011, 0b11100)]))
+    return found
+
+
+def with_one_more(n, sets):
+    """The list with each set that it lacks put in, one by one."""
+    for s in range(2**n):
+        if s not in sets:
+            yield sorted(sets + [s])
+
+
+def with_one_less(sets):
+    for s in sets:
+        yield [t for t in sets if t != s]
