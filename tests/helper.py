@@ -1,6 +1,11 @@
-"""What several tests need: sets by worths, plain searches for breaks, and numbers that only look strewn."""
+"""What several tests need: sets by worths, plain searches for breaks, houses, and numbers that only look strewn."""
 
 import itertools
+
+from basehouse.houses import Even, House, Listed
+from basehouse.nets import Net
+from basehouse.tables import Tabled
+from basehouse.turned import Minor, Other, Side
 
 PRIMES = [p for p in range(2, 100) if all(p % d for d in range(2, p))]
 # How many houses of 0, 1, 2, .. things there are, the things told apart.
@@ -159,3 +164,79 @@ def with_one_more(n, sets):
 def with_one_less(sets):
     for s in sets:
         yield [t for t in sets if t != s]
+
+
+def outside(n, s):
+    return [k for k in range(n) if k not in members(s)]
+
+
+def other_ranks(ranks):
+    """The ranks of the other house, by what the bases leave out."""
+    everything = len(ranks) - 1
+    bases = [s for s in range(len(ranks)) if ranks[s] == len(members(s)) == ranks[everything]]
+    left_out = [everything - base for base in bases]
+    return [rank_by(left_out, s) for s in range(len(ranks))]
+
+
+def minor_ranks(ranks, out, drawn):
+    kept = [k for k in members(len(ranks) - 1) if k not in members(out) + members(drawn)]
+    found = []
+    for s in range(2 ** len(kept)):
+        put = number([kept[j] for j in members(s)] + members(drawn))
+        found.append(ranks[put] - ranks[drawn])
+    return found
+
+
+def side_ranks(one, other):
+    """Thing j of the other goes behind the things of the one."""
+    return [one[s % len(one)] + other[s // len(one)] for s in range(len(one) * len(other))]
+
+
+def ranks_of(house):
+    return [house.rank(s) for s in range(2**house.many)]
+
+
+def plain_houses():
+    """Houses that are made of no others, of each sort and of 0 to 8 things: (label, house)."""
+    found = [(f"House({n})", House(n)) for n in range(9)]
+    found += [(f"Even({n}, {k})", Even(n, k)) for n in range(9) for k in {0, 1, n // 2, max(n - 1, 0), n} if k <= n]
+    found += [(f"Listed({n}, {bases})", Listed(n, bases)) for n, bases in some_bases() if len(bases) < 40]
+    numbers = strewn(99)
+    for n in range(9):
+        for prime, rows, span in [(0, 3, 5), (2, 4, 2), (3, 2, 3), (97, 3, 200)]:
+            table = [[next(numbers) % span - span // 2 for k in range(n)] for row in range(rows)]
+            found.append((f"Tabled({n}, {prime}, {table})", Tabled(n, prime, table)))
+        for points in [1, 3, 5, 9]:
+            ties = [(next(numbers) % points, next(numbers) % points) for k in range(n)]
+            found.append((f"Net({n}, {points}, {ties})", Net(n, points, ties)))
+    seven = [[1, 0, 0, 1, 1, 0, 1], [0, 1, 0, 1, 0, 1, 1], [0, 0, 1, 0, 1, 1, 1]]
+    found.append(("seven over 2", Tabled(7, 2, seven)))
+    found.append(("seven over 0", Tabled(7, 0, seven)))
+    found.append(("no points", Net(0, 0, [])))
+    found.append(("four points", Net(6, 4, [(0, 1), (0, 2), (0, 3), (1, 2), (1, 3), (2, 3)])))
+    return found
+
+
+def made_houses():
+    """Houses made of houses, one deep and deeper, each sort of 0 to 8 things: (label, house)."""
+    found = []
+    for n in range(9):
+        found.append((f"Other(Even({n}, {n // 3}))", Other(Even(n, n // 3))))
+        found.append((f"Minor(Even({n}, {n // 2}), 0, 0)", Minor(Even(n, n // 2), 0, 0)))
+        found.append((f"Side of {n} things", Side(Even(n // 2, n // 3), House(n - n // 2))))
+    numbers = strewn(98)
+    plain = plain_houses()
+    for label, house in plain[::5]:
+        out = next(numbers) % 2**house.many
+        drawn = next(numbers) % 2**house.many & ~out
+        found.append((f"Other({label})", Other(house)))
+        found.append((f"Minor({label}, {out}, {drawn})", Minor(house, out, drawn)))
+        found.append((f"Minor(Other({label}), 0, {drawn})", Minor(Other(house), 0, drawn)))
+    for (label, one), (other_label, other) in zip(plain[::3], reversed(plain[::3])):
+        if one.many + other.many <= 8:
+            found.append((f"Other(Side({label}, {other_label}))", Other(Side(one, other))))
+    return found
+
+
+def all_houses():
+    return plain_houses() + made_houses()

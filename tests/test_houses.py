@@ -106,7 +106,8 @@ class KeptApart(unittest.TestCase):
 
     def test_another_house_made_between_changes_nothing(self):
         makers = [
-            lambda: House(5), lambda: Even(5, 2), lambda: Even(3, 3), lambda: Listed(5, [7, 28]), lambda: Listed(3, [0]),
+            lambda: House(5), lambda: Even(5, 2), lambda: Even(3, 3),
+            lambda: Listed(5, [7, 28]), lambda: Listed(3, [0]),
         ]
         for maker, other in itertools.product(makers, makers):
             house = maker()
