@@ -196,6 +196,11 @@ def ranks_of(house):
     return [house.rank(s) for s in range(2**house.many)]
 
 
+def bases_of(house):
+    told = ranks_of(house)
+    return [s for s in range(len(told)) if told[s] == len(members(s)) == told[-1]]
+
+
 def plain_houses():
     """Houses that are made of no others, of each sort and of 0 to 8 things: (label, house)."""
     found = [(f"House({n})", House(n)) for n in range(9)]

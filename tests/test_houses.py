@@ -3,11 +3,7 @@ import unittest
 
 import helper
 from basehouse.houses import Even, House, Listed
-from helper import members, number, subsets
-
-
-def ranks(house):
-    return [house.rank(s) for s in range(2**house.many)]
+from helper import members, number, ranks_of, subsets
 
 
 class Houses(unittest.TestCase):
@@ -19,8 +15,8 @@ class Houses(unittest.TestCase):
             self.assertIs(type(house.many), int)
             self.assertEqual(house.everything(), 2**n - 1)
             self.assertIs(type(house.everything()), int)
-            self.assertEqual(ranks(house), told)
-            self.assertEqual({type(rank) for rank in ranks(house)}, {int})
+            self.assertEqual(ranks_of(house), told)
+            self.assertEqual({type(rank) for rank in ranks_of(house)}, {int})
 
     def test_house(self):
         for n in range(9):
@@ -32,10 +28,10 @@ class Houses(unittest.TestCase):
                 self.assertHouse(Even(n, k), n, [min(len(members(s)), k) for s in range(2**n)])
 
     def test_even_by_hand(self):
-        self.assertEqual(ranks(Even(0, 0)), [0])
-        self.assertEqual(ranks(Even(2, 0)), [0, 0, 0, 0])
-        self.assertEqual(ranks(Even(2, 1)), [0, 1, 1, 1])
-        self.assertEqual(ranks(Even(2, 2)), [0, 1, 1, 2])
+        self.assertEqual(ranks_of(Even(0, 0)), [0])
+        self.assertEqual(ranks_of(Even(2, 0)), [0, 0, 0, 0])
+        self.assertEqual(ranks_of(Even(2, 1)), [0, 1, 1, 1])
+        self.assertEqual(ranks_of(Even(2, 2)), [0, 1, 1, 2])
         self.assertEqual(Even(8, 5).rank(255), 5)
         self.assertEqual(Even(8, 5).rank(0b11110000), 4)
 
@@ -71,22 +67,22 @@ class Houses(unittest.TestCase):
             self.assertHouse(Listed(5, list(order)), 5, [helper.rank_by([3, 5, 24], s) for s in range(32)])
 
     def test_a_set_that_comes_twice(self):
-        told = ranks(Listed(4, [3, 5, 6]))
-        self.assertEqual(ranks(Listed(4, [5, 3, 5, 6, 3, 3])), told)
-        self.assertEqual(ranks(Listed(4, [6, 6, 5, 5, 3, 3] * 20)), told)
-        self.assertEqual(ranks(Listed(4, [9, 9])), ranks(Listed(4, [9])))
+        told = ranks_of(Listed(4, [3, 5, 6]))
+        self.assertEqual(ranks_of(Listed(4, [5, 3, 5, 6, 3, 3])), told)
+        self.assertEqual(ranks_of(Listed(4, [6, 6, 5, 5, 3, 3] * 20)), told)
+        self.assertEqual(ranks_of(Listed(4, [9, 9])), ranks_of(Listed(4, [9])))
 
     def test_all_sets_of_k_things_are_even(self):
         for n in range(9):
             for k in range(n + 1):
-                self.assertEqual(ranks(Listed(n, subsets(n, k))), ranks(Even(n, k)))
+                self.assertEqual(ranks_of(Listed(n, subsets(n, k))), ranks_of(Even(n, k)))
 
 
 class KeptApart(unittest.TestCase):
     def test_the_list_handed_in_stays_as_it_was(self):
         some = [6, 3, 6, 5]
         house = Listed(3, some)
-        ranks(house)
+        ranks_of(house)
         self.assertEqual(some, [6, 3, 6, 5])
 
     def test_the_list_changed_behind_the_call_changes_no_rank(self):
@@ -95,7 +91,7 @@ class KeptApart(unittest.TestCase):
         told = [0, 1, 1, 2, 1, 2, 1, 2]
         for change in [lambda: some.append(7), lambda: some.reverse(), lambda: some.pop(), lambda: some.clear()]:
             change()
-            self.assertEqual(ranks(house), told)
+            self.assertEqual(ranks_of(house), told)
 
     def test_a_list_changed_between_two_houses(self):
         some = [3]
@@ -111,11 +107,11 @@ class KeptApart(unittest.TestCase):
         ]
         for maker, other in itertools.product(makers, makers):
             house = maker()
-            told = ranks(house)
-            ranks(other())
-            self.assertEqual(ranks(house), told)
+            told = ranks_of(house)
+            ranks_of(other())
+            self.assertEqual(ranks_of(house), told)
             self.assertEqual(house.everything(), number(range(house.many)))
-            self.assertEqual(ranks(maker()), told)
+            self.assertEqual(ranks_of(maker()), told)
 
 
 if __name__ == "__main__":

@@ -5,13 +5,9 @@ import helper
 from basehouse.houses import House
 from basehouse.pivots import rank_of
 from basehouse.tables import Tabled
-from helper import members
+from helper import members, ranks_of
 
 LONG = 10**59 + 7
-
-
-def ranks(house):
-    return [house.rank(s) for s in range(2**house.many)]
 
 
 def apart(columns, prime):
@@ -35,8 +31,8 @@ class Tables(unittest.TestCase):
         self.assertEqual(house.many, n)
         self.assertEqual(house.everything(), 2**n - 1)
         for asked in range(2):
-            self.assertEqual(ranks(house), told)
-            self.assertEqual({type(rank) for rank in ranks(house)}, {int})
+            self.assertEqual(ranks_of(house), told)
+            self.assertEqual({type(rank) for rank in ranks_of(house)}, {int})
 
     def test_by_hand(self):
         rows = [[1, 0, 1, 0], [0, 1, 1, 0]]
@@ -98,14 +94,14 @@ class Tables(unittest.TestCase):
         rows = [[1, 2, -3, 4], [0, 5, 6, -7]]
         more = [[a - 2 * b for a, b in zip(rows[0], rows[1])], [3 * a for a in rows[0]], [0, 0, 0, 0]]
         for prime in [0] + helper.PRIMES:
-            self.assertEqual(ranks(Tabled(4, prime, rows + more)), ranks(Tabled(4, prime, rows)))
+            self.assertEqual(ranks_of(Tabled(4, prime, rows + more)), ranks_of(Tabled(4, prime, rows)))
 
     def test_unlike_primes_unlike_ranks(self):
         for prime in helper.PRIMES:
             rows = [[1, 1, 0], [1, 1 + prime, 0]]
             for other in [0] + helper.PRIMES:
                 both = 1 if other == prime else 2
-                self.assertEqual(ranks(Tabled(3, other, rows)), [0, 1, 1, both] * 2)
+                self.assertEqual(ranks_of(Tabled(3, other, rows)), [0, 1, 1, both] * 2)
         # The seven of three rows: over 2 its lines hang together, over others one of them does not.
         rows = [[1, 0, 0, 1, 1, 0, 1], [0, 1, 0, 1, 0, 1, 1], [0, 0, 1, 0, 1, 1, 1]]
         slant = 0b0111000
@@ -117,7 +113,7 @@ class KeptApart(unittest.TestCase):
     def test_the_table_handed_in_stays_as_it_was(self):
         for prime in [0, 2, 97]:
             rows = [[5, -7, LONG], [3, 4, 0]]
-            ranks(Tabled(3, prime, rows))
+            ranks_of(Tabled(3, prime, rows))
             self.assertEqual(rows, [[5, -7, LONG], [3, 4, 0]])
 
     def test_the_table_changed_behind_the_call_changes_no_rank(self):
@@ -131,14 +127,14 @@ class KeptApart(unittest.TestCase):
             ]
             for change in changes:
                 change()
-                self.assertEqual(ranks(house), told)
+                self.assertEqual(ranks_of(house), told)
 
     def test_another_house_made_between_changes_nothing(self):
         rows = [[1, 2], [3, 4]]
         two, all_ = Tabled(2, 2, rows), Tabled(2, 0, rows)
         for asked in range(2):
-            self.assertEqual((ranks(two), ranks(all_)), ([0, 1, 0, 1], [0, 1, 1, 2]))
-            self.assertEqual(ranks(Tabled(2, 3, [[0, 0], [1, 0]])), [0, 1, 0, 1])
+            self.assertEqual((ranks_of(two), ranks_of(all_)), ([0, 1, 0, 1], [0, 1, 1, 2]))
+            self.assertEqual(ranks_of(Tabled(2, 3, [[0, 0], [1, 0]])), [0, 1, 0, 1])
 
 
 if __name__ == "__main__":

@@ -7,12 +7,7 @@ from basehouse.nets import Net
 from basehouse.sets import pressed, spread
 from basehouse.tables import Tabled
 from basehouse.turned import Minor, Other, Side
-from helper import members, minor_ranks, number, other_ranks, ranks_of, side_ranks
-
-
-def bases_of(house):
-    told = ranks_of(house)
-    return [s for s in range(len(told)) if told[s] == len(members(s)) == told[-1]]
+from helper import bases_of, members, minor_ranks, number, other_ranks, ranks_of, side_ranks
 
 
 def two_sets(n):

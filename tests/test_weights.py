@@ -5,14 +5,9 @@ import helper
 from basehouse.houses import Even, House, Listed
 from basehouse.nets import Net
 from basehouse.weights import heaviest, weight_of
-from helper import members, ranks_of
+from helper import bases_of, members, ranks_of
 
 LONG = 10**59 + 7
-
-
-def bases_of(house):
-    told = ranks_of(house)
-    return [s for s in range(len(told)) if told[s] == len(members(s)) == told[-1]]
 
 
 def plain_weight(s, weights):
