@@ -2,6 +2,7 @@
 
 import itertools
 
+from basehouse.breaks import broken_bases
 from basehouse.houses import Even, House, Listed
 from basehouse.nets import Net
 from basehouse.tables import Tabled
@@ -9,7 +10,7 @@ from basehouse.turned import Minor, Other, Side
 
 PRIMES = [p for p in range(2, 100) if all(p % d for d in range(2, p))]
 # How many houses of 0, 1, 2, .. things there are, the things told apart.
-HOUSES = [1, 2, 5, 16, 68]
+HOUSES = [1, 2, 5, 16, 68, 406]
 
 
 def members(s):
@@ -140,9 +141,7 @@ def tellings_by(n, bases):
 def some_bases():
     """Bases of houses of 0 to 8 things, told by hand: (n, list of bases)."""
     found = [(n, subsets(n, k)) for n in range(9) for k in range(n + 1)]
-    lines = [{0, 1, 2}, {0, 3, 4}, {0, 5, 6}, {1, 3, 5}, {1, 4, 6}, {2, 3, 6}, {2, 4, 5}]
-    seven = [s for s in subsets(7, 3) if set(members(s)) not in lines]
-    found.append((7, seven))
+    found.append((7, SEVEN))
     # A thing of rank 0 and a thing in every base, beside it.
     found.append((8, [s + 128 for s in subsets(6, 2)]))
     found.append((4, [1]))
@@ -172,9 +171,7 @@ def outside(n, s):
 
 def other_ranks(ranks):
     """The ranks of the other house, by what the bases leave out."""
-    everything = len(ranks) - 1
-    bases = [s for s in range(len(ranks)) if ranks[s] == len(members(s)) == ranks[everything]]
-    left_out = [everything - base for base in bases]
+    left_out = [len(ranks) - 1 - base for base in bases_by(ranks)]
     return [rank_by(left_out, s) for s in range(len(ranks))]
 
 
@@ -196,9 +193,12 @@ def ranks_of(house):
     return [house.rank(s) for s in range(2**house.many)]
 
 
+def bases_by(ranks):
+    return [s for s in range(len(ranks)) if ranks[s] == len(members(s)) == ranks[-1]]
+
+
 def bases_of(house):
-    told = ranks_of(house)
-    return [s for s in range(len(told)) if told[s] == len(members(s)) == told[-1]]
+    return bases_by(ranks_of(house))
 
 
 def plain_houses():
@@ -245,3 +245,96 @@ def made_houses():
 
 def all_houses():
     return plain_houses() + made_houses()
+
+
+def deeper(house, told, numbers):
+    """A house one deeper than this, and its ranks by plain means."""
+    e = len(told) - 1
+    sort = next(numbers) % 4
+    if sort == 0:
+        return Other(house), other_ranks(told)
+    if sort == 1 and house.many > 0:
+        out = next(numbers) & next(numbers) & e
+        drawn = next(numbers) & next(numbers) & e & ~out
+        return Minor(house, out, drawn), minor_ranks(told, out, drawn)
+    n = 8 - house.many if house.many > 5 else 2
+    other = Even(n, next(numbers) % (n + 1))
+    if sort == 2:
+        return Side(house, other), side_ranks(told, ranks_of(other))
+    return Side(other, house), side_ranks(ranks_of(other), told)
+
+
+def deep_houses():
+    """Houses six deep: (label, house)."""
+    found = []
+    numbers = strewn(97)
+    for label, house in plain_houses()[::4]:
+        told = ranks_of(house)
+        for deep in range(6):
+            house, told = deeper(house, told, numbers)
+        found.append((f"six deep, of {label}", house))
+    return found
+
+
+def by_many(houses):
+    """The houses of 0, 1, .. 8 things, a list each."""
+    return [[(label, house) for label, house in houses if house.many == n] for n in range(9)]
+
+
+def called(bases, names):
+    """The bases with thing k called names[k]."""
+    return sorted(number(names[k] for k in members(base)) for base in bases)
+
+
+LINES = ((0, 1, 2), (0, 3, 4), (0, 5, 6), (1, 3, 5), (1, 4, 6), (2, 3, 6), (2, 4, 5))
+SEVEN = [s for s in subsets(7, 3) if tuple(members(s)) not in LINES]
+
+
+def all_sevens():
+    """The bases of every "seven" of the things 0 to 6, whatever these are called: 30 lists."""
+    found = {tuple(called(SEVEN, names)) for names in itertools.permutations(range(7))}
+    return [list(bases) for bases in sorted(found)]
+
+
+SEVENS = {tuple(bases) for bases in all_sevens()}
+
+
+def plain_kind(n, bases):
+    """The barred house that has just these bases, or None."""
+    for kind, many, rank in [("two of four", 4, 2), ("two of five", 5, 2), ("three of five", 5, 3)]:
+        if n == many and bases == subsets(many, rank):
+            return kind
+    if n == 7 and tuple(bases) in SEVENS:
+        return "seven"
+    if n == 7 and tuple(sorted(127 - base for base in bases)) in SEVENS:
+        return "other seven"
+    return None
+
+
+def two_sets(n):
+    """All pairs of sets of n things without a thing in common."""
+    for ways in itertools.product(range(3), repeat=n):
+        yield number(k for k in range(n) if ways[k] == 1), number(k for k in range(n) if ways[k] == 2)
+
+
+def small_houses(n):
+    """Every house of n things, n at most 5, as a Listed one."""
+    found = []
+    for rank in range(n + 1):
+        sets = subsets(n, rank)
+        for chosen in range(1, 2 ** len(sets)):
+            bases = [sets[place] for place in members(chosen)]
+            if broken_bases(n, bases) is None:
+                found.append(Listed(n, bases))
+    return found
+
+
+def paved(n, rank, seed):
+    """A house in which only some sets of as many things as the whole rank are no bases, any two of them far apart."""
+    numbers = strewn(seed)
+    sets = sorted(subsets(n, rank), key=lambda s: next(numbers))
+    shut = []
+    for s in sets[: 5 + next(numbers) % len(sets)]:
+        if all(len(members(s & t)) < rank - 1 for t in shut):
+            shut.append(s)
+    return Listed(n, [s for s in subsets(n, rank) if s not in shut])

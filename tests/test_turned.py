@@ -7,13 +7,7 @@ from basehouse.nets import Net
 from basehouse.sets import pressed, spread
 from basehouse.tables import Tabled
 from basehouse.turned import Minor, Other, Side
-from helper import bases_of, members, minor_ranks, number, other_ranks, ranks_of, side_ranks
-
-
-def two_sets(n):
-    """All pairs of sets of n things without a thing in common."""
-    for parts in itertools.product(range(3), repeat=n):
-        yield number(k for k in range(n) if parts[k] == 1), number(k for k in range(n) if parts[k] == 2)
+from helper import bases_of, members, minor_ranks, other_ranks, ranks_of, side_ranks, two_sets
 
 
 class Turned(unittest.TestCase):
@@ -187,28 +181,12 @@ class SideBySide(Turned):
 
 
 class Deep(Turned):
-    def deeper(self, house, told, numbers):
-        """A house one deeper than this, and its ranks by plain means."""
-        e = len(told) - 1
-        sort = next(numbers) % 4
-        if sort == 0:
-            return Other(house), other_ranks(told)
-        if sort == 1 and house.many > 0:
-            out = next(numbers) & next(numbers) & e
-            drawn = next(numbers) & next(numbers) & e & ~out
-            return Minor(house, out, drawn), minor_ranks(told, out, drawn)
-        n = 8 - house.many if house.many > 5 else 2
-        other = Even(n, next(numbers) % (n + 1))
-        if sort == 2:
-            return Side(house, other), side_ranks(told, ranks_of(other))
-        return Side(other, house), side_ranks(ranks_of(other), told)
-
     def test_up_to_six_deep(self):
         numbers = helper.strewn(19)
         for label, house in helper.plain_houses()[::2]:
             told = ranks_of(house)
             for deep in range(6):
-                house, told = self.deeper(house, told, numbers)
+                house, told = helper.deeper(house, told, numbers)
                 self.assertHouse(house, told, label)
 
     def test_six_deep_of_one_sort(self):
