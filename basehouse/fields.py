@@ -12,10 +12,6 @@ from basehouse.sets import choices, less, set_of, things
 from basehouse.tellings import bases, ranks, whole_rank
 from basehouse.turned import Minor
 
-# How many things are kept, and their whole rank, for each barred house.
-OVER_TWO = ((TWO_OF_FOUR, 4, 2),)
-OVER_THREE = ((TWO_OF_FIVE, 5, 2), (THREE_OF_FIVE, 5, 3), (SEVEN, 7, 3), (OTHER_SEVEN, 7, 4))
-
 
 # The search asks for the same ranks over and over, and a rank may be dear in the house itself.
 class Known(House):
@@ -87,6 +83,7 @@ def left_barred(house, kind, many, rank):
     return None
 
 
+# Each kind comes with the number of its things and its whole rank.
 def told_over(house, prime, kinds):
     known = Known(house)
     rows = table_for(known, prime)
@@ -100,11 +97,12 @@ def told_over(house, prime, kinds):
 
 
 def over_two(house):
-    return told_over(house, 2, OVER_TWO)
+    return told_over(house, 2, [(TWO_OF_FOUR, 4, 2)])
 
 
 def over_three(house):
-    return told_over(house, 3, OVER_THREE)
+    kinds = [(TWO_OF_FIVE, 5, 2), (THREE_OF_FIVE, 5, 3), (SEVEN, 7, 3), (OTHER_SEVEN, 7, 4)]
+    return told_over(house, 3, kinds)
 
 
 # A house has a table over all just where it has one over 2 and one over 3; the latter is such a table then, where -1

@@ -166,6 +166,65 @@ def name_at_top_faults(tree):
     return faults
 
 
+def top_value_faults(tree):
+    """Values at the top that are not plain ones, or lists and the like of plain ones and of functions above."""
+    faults = []
+    above = set()
+    for part in tree.body:
+        if isinstance(part, ast.FunctionDef):
+            above.add(part.name)
+        for node in ast.walk(part.value) if isinstance(part, ast.Assign) else []:
+            named = isinstance(node, ast.Name) and node.id in above and node is not part.value
+            plain = isinstance(node, (ast.Constant, ast.List, ast.Tuple, ast.Dict, ast.UnaryOp, ast.USub, ast.Load))
+            if not named and not plain:
+                faults.append(f"L3 a value at line {part.lineno}")
+            inner = isinstance(node, (ast.List, ast.Dict)) and node is not part.value
+            if inner:
+                faults.append(f"L15 a list within a list at line {part.lineno}")
+    return faults
+
+
+def set_faults(tree):
+    """Sets that are kept or walked: each stands within sorted or len, or beside another in a comparison."""
+    right = []
+    for node in ast.walk(tree):
+        if isinstance(node, ast.Call) and isinstance(node.func, ast.Name) and node.func.id in ("sorted", "len"):
+            right.extend(node.args)
+        if isinstance(node, ast.Compare):
+            right.extend(node.comparators + [node.left])
+        if isinstance(node, ast.BinOp) and node in right:
+            right.extend([node.left, node.right])
+    calls = [node for node in ast.walk(tree) if isinstance(node, ast.Call) and isinstance(node.func, ast.Name)]
+    sets = [node for node in calls if node.func.id in ("set", "frozenset")]
+    return [f"L24 a set at line {node.lineno}" for node in sets if node not in right]
+
+
+KEYWORDS = {"sorted": {"key", "reverse"}, "min": {"key", "default"}, "max": {"key", "default"}, "sum": {"start"},
+            "enumerate": {"start"}, "zip": {"strict"}}
+
+
+def call_faults(node):
+    if not isinstance(node, ast.Call):
+        return []
+    name = node.func.id if isinstance(node.func, ast.Name) else ""
+    told = [keyword.arg for keyword in node.keywords]
+    if name in OWN_NAMES or isinstance(node.func, ast.Attribute):
+        return [f"L22 {word} at {name}" for word in told if word not in KEYWORDS.get(name, set())]
+    return []
+
+
+def walked_faults(tree):
+    """What is to be walked on the spot, but is kept."""
+    faults = []
+    for node in ast.walk(tree):
+        if isinstance(node, (ast.Assign, ast.Return)) and isinstance(node.value, ast.Call):
+            func = node.value.func
+            name = func.id if isinstance(func, ast.Name) else func.attr if isinstance(func, ast.Attribute) else ""
+            if name in ("zip", "enumerate", "reversed", "range", "items", "keys", "values"):
+                faults.append(f"L23 {name} at line {node.lineno}")
+    return faults
+
+
 def tops_of(node):
     if isinstance(node, (ast.FunctionDef, ast.ClassDef)):
         return [node.name]
@@ -176,10 +235,11 @@ def tops_of(node):
 
 def faults_of(text):
     tree = ast.parse(text)
-    faults = text_faults(text) + top_faults(tree) + name_at_top_faults(tree)
+    faults = text_faults(text) + top_faults(tree) + name_at_top_faults(tree) + top_value_faults(tree)
+    faults = faults + set_faults(tree) + walked_faults(tree)
     for node in ast.walk(tree):
         found = name_faults(node) + import_faults(node) + def_faults(node)
-        found = found + statement_faults(node) + value_faults(node)
+        found = found + statement_faults(node) + value_faults(node) + call_faults(node)
         faults.extend(f"{fault} (line {getattr(node, 'lineno', '?')})" for fault in found)
     return faults
 
@@ -259,6 +319,10 @@ class Form(unittest.TestCase):
             "def f():\n" + "    pass\n" * 40, "def f(x):\n    return [a for a in x if a if a]\n",
             "from basehouse.sets import size\ndef f(size):\n    return size\n", "x = 1\nx = 2\n",
             "class C:\n    pass\ndef f(x):\n    return [C for C in x]\n",
+            "x = [[1]]\n", "from basehouse.sets import size\nx = (size, 1)\n", "x = 1 + 2\n",
+            "def f(x):\n    return set(x)\n", "def f(x):\n    for a in set(x):\n        pass\n",
+            "def f(x):\n    return sorted(x, default=1)\n", "def f(x):\n    return int(x, base=2)\n",
+            "def f(x):\n    a = zip(x, x)\n    return list(a)\n", "def f(x):\n    return x.items()\n",
         ]
         for text in wrong:
             self.assertNotEqual(faults_of(text), [], text)
